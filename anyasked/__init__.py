@@ -1,0 +1,1 @@
+"""anyasked: shares shown rounded, whatever number was asked."""
