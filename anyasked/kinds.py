@@ -21,6 +21,16 @@ def least_terms(over, under):
     return over // common, under // common
 
 
+def is_fraction(value):
+    """Whether any value is a fraction: a pair in least terms, from 0 on."""
+    if not isinstance(value, tuple) or len(value) != 2:
+        return False
+    over, under = value
+    if not is_integer(over) or not is_integer(under):
+        return False
+    return over >= 0 and under >= 1 and gcd(over, under) == 1
+
+
 def read_number(word, most):
     """The integer from 0 to most that a word writes in decimal, or None."""
     # What is longer than the greatest one is not read: int refuses very long words.

@@ -2,6 +2,7 @@
 
 from anyasked.errors import AskedError
 from anyasked.pages import Page
+from anyasked.tables import Table
 
 SMALL = "in 100 near\nasked all\npart yes of all"
 
@@ -17,6 +18,7 @@ def nested(make, deep):
 def any_values():
     """Values of all kinds, made anew."""
     page = Page(SMALL)
+    table = Table(page, (3,))
     plain = [
         0, 1, -1, 2, 3, 4, 7, 50, 99, 100, 101, 999999999, -999999999, True, False, None,
         "", " ", "0", "1", "100", "near", "none", "some", "None", "all", "yes", "ALL", "all ", "in 100 near",
@@ -26,6 +28,7 @@ def any_values():
     lists = [[], [1], ["all"], [100, "near"], [[1], [2]], [None]]
     dicts = [{}, {"all": 1}, {100: "near"}, {1: [2, (3,)]}, {"b": 100, "how": "near"}]
     objects = [page, AskedError("all"), [page], (page,), {"page": page}, (100, page), (page, "near")]
+    objects += [table, [table], ("table", table), {"all": table}]
     deep = [
         nested(lambda value: [value], 30),
         nested(lambda value: (value,), 30),

@@ -2,26 +2,14 @@
 
 import unittest
 from fractions import Fraction
-from math import ceil, floor
 
 from anyasked import shares
 from anyasked.errors import BadCount, BadShare, BadUnits
 from anyasked.shares import shown, stretch
 from tests.anyvalues import Refusals, any_values, is_plain_integer
+from tests.reckoning import HALF, rounded
 
 HOWS = ("near", "even", "down", "up")
-HALF = Fraction(1, 2)
-
-
-def rounded(how, exact):
-    """A Fraction rounded, as the document says."""
-    if how == "down":
-        return floor(exact)
-    if how == "up":
-        return ceil(exact)
-    if how == "near":
-        return floor(exact + HALF)
-    return round(exact)
 
 
 def lies_in(found, exact):
