@@ -1,16 +1,21 @@
-"""Point 3: (a) all numbers, (b) adding, (c) more figures."""
+"""Point 3: (a) all numbers, (b) adding, (c) more figures, (d) totals."""
 
 import random
 import unittest
+from fractions import Fraction
 
-from anyasked.errors import NoTable
+from anyasked.comparing import within
+from anyasked.errors import Empty, NoTable
 from anyasked.holding import judged
 from anyasked.pages import Page
 from anyasked.possible import both, possible
+from anyasked.ranges import ratio
 from anyasked.tables import Table
+from anyasked.totals import can, counts_at, step, totals
 from tests.countedpages import bare_page, counted_page, random_counts, shown_page
 from tests.pagetexts import EXAMPLE, random_share
-from tests.reckoning import fits, holds, small_tables
+from tests.ratios import lies_within
+from tests.reckoning import fits, holds, many_in, small_tables
 from tests.statements import differing_statement, random_statement
 
 
@@ -134,6 +139,89 @@ class MoreFiguresTest(unittest.TestCase):
                     self.assertIn(told, ("open", behind))
                     told = behind
             self.assertIs(Table(page, counts).fits, True)
+
+    def test_bounds_only_come_together(self):
+        chance = random.Random(38)
+        seen = {"same": 0, "nearer": 0, "empty": 0, "none": 0}
+        for _ in range(150):
+            page, counts = counted_page(chance, told=0.4)
+            part = chance.choice(page.parts)
+            other = chance.choice([other for other in page.parts if many_in(page, counts, other)])
+            found = ratio(page, part, other)
+            right = shown_page(chance, page, counts, 1.0)
+            changed = chance.choice(page.parts[1:])
+            more = [page.told_far(changed, right[changed][2])] if page[changed][2] is None else []
+            if page[changed][1] is None:
+                more += [page.told(changed, right[changed][1]), page.told(changed, random_share(chance, page.units[0]))]
+            for further in more:
+                try:
+                    behind = ratio(further, part, other)
+                except NoTable:
+                    seen["none"] += 1
+                    continue
+                except Empty:
+                    seen["empty"] += 1
+                    continue
+                self.assertTrue(is_as_near(found, behind), (page.text, further.text, part, other))
+                seen["same" if [side[:2] for side in found] == [side[:2] for side in behind] else "nearer"] += 1
+        self.assertGreater(min(seen["same"], seen["nearer"], seen["none"]), 15, seen)
+
+    def test_totals_only_get_fewer(self):
+        chance = random.Random(39)
+        for _ in range(25):
+            page, counts = counted_page(chance, 9, told=0.4)
+            right = shown_page(chance, page, counts, 1.0)
+            part = chance.choice(page.parts[1:])
+            further = page.told(part, right[part][1]).told_far(part, right[part][2])
+            if any(own not in (None, new) for own, new in zip(page[part][1:], further[part][1:])):
+                continue
+            self.assertLessEqual(set(totals(further, 1, 60)), set(totals(page, 1, 60)))
+            self.assertEqual(step(further) % step(page), 0)
+            self.assertEqual(within(further, page)[0], "within")
+
+
+def is_as_near(found, behind):
+    """Whether the bounds told behind lie within these."""
+    low, high = ((Fraction(*side[0]), not side[1]) if side[0] != () else None for side in found)
+    further, most = ((Fraction(*side[0]), not side[1]) if side[0] != () else None for side in behind)
+    if further < low or (high is not None and most is None):
+        return False
+    if high is None:
+        return True
+    return most[0] < high[0] or (most[0] == high[0] and most[1] >= high[1])
+
+
+class TotalsTest(unittest.TestCase):
+    def test_small_tables(self):
+        chance = random.Random(40)
+        stepped = 0
+        for _ in range(160):
+            bare = bare_page(chance, 3)
+            page = shown_page(chance, bare, random_counts(chance, bare, 5), chance.choice((0.4, 0.9)))
+            found = step(page)
+            every = totals(page, 1, 18)
+            fitting = [counts for counts in small_tables(page, 6) if fits(page, counts)]
+            stepped += found > 1
+            bounds = {}
+            for counts in fitting:
+                total = sum(counts)
+                self.assertEqual(total % found, 0)
+                self.assertIn(total, every)
+                self.assertEqual(can(page, total)[0], "can")
+                for part in page.parts:
+                    self.assertIn(many_in(page, counts, part), counts_at(page, total, part))
+                    if part not in bounds:
+                        bounds[part] = ratio(page, part, page.parts[0])
+                    self.assertTrue(lies_within(bounds[part], Fraction(many_in(page, counts, part), total)))
+        self.assertGreater(stepped, 10)
+
+    def test_sums(self):
+        chance = random.Random(41)
+        for _ in range(40):
+            page, counts = counted_page(chance, 12)
+            for total in {sum(counts), *totals(page, 1, 20)}:
+                if total + sum(counts) <= 150:
+                    self.assertEqual(can(page, total + sum(counts))[0], "can")
 
 
 if __name__ == "__main__":
