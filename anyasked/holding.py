@@ -2,7 +2,7 @@
 
 from anyasked.deciding import decided
 from anyasked.errors import BadStatement, NoTable
-from anyasked.kinds import is_integer
+from anyasked.kinds import is_integer, is_name
 from anyasked.possible import possible
 from anyasked.rows import are_so, is_paper, rows, weights_of
 
@@ -61,23 +61,28 @@ def ways_of(page, statement):
 
 def is_statement(page, value):
     """Whether any value is a statement of a page."""
+    return is_statement_of_names(value) and all([part in page for part, weight in value[0]])
+
+
+def is_statement_of_names(value):
+    """Whether any value has the form of a statement, with any names as parts."""
     if not isinstance(value, tuple) or len(value) != 2:
         return False
     terms, word = value
     if not isinstance(terms, tuple) or not 1 <= len(terms) <= MOST_TERMS:
         return False
-    if not all([is_term(page, term) for term in terms]):
+    if not all([is_term(term) for term in terms]):
         return False
     parts = [part for part, weight in terms]
     return parts == sorted(set(parts)) and word in WORDS
 
 
-def is_term(page, value):
-    """Whether any value is a term: a part with a weight."""
+def is_term(value):
+    """Whether any value is a term: a name with a weight."""
     if not isinstance(value, tuple) or len(value) != 2:
         return False
     part, weight = value
-    return part in page and is_integer(weight) and weight != 0 and abs(weight) <= MOST_WEIGHT
+    return is_name(part) and is_integer(weight) and weight != 0 and abs(weight) <= MOST_WEIGHT
 
 
 def are_papers(page, further, value):

@@ -7,9 +7,7 @@ from anyasked.errors import BadTotal, NoPart, NoTable
 from anyasked.kinds import is_integer
 from anyasked.possible import possible
 from anyasked.rows import are_so, rows
-from anyasked.spreads import (
-    can_be_parted, counts_by, members_of, numbers_beneath, set_for, set_of, set_to, sets_beneath,
-)
+from anyasked.spreads import can_be_parted, counts_by, members_of, numbers_beneath, set_for, set_of, sets_beneath
 
 MOST_TOTAL = 150
 

@@ -1,7 +1,9 @@
 """Values of all kinds that may be handed in, and how refusals are checked."""
 
+from anyasked.desk import Desk
 from anyasked.errors import AskedError
 from anyasked.pages import Page
+from anyasked.sheets import Sheet
 from anyasked.tables import Table
 
 SMALL = "in 100 near\nasked all\npart yes of all"
@@ -29,6 +31,8 @@ def any_values():
     dicts = [{}, {"all": 1}, {100: "near"}, {1: [2, (3,)]}, {"b": 100, "how": "near"}]
     objects = [page, AskedError("all"), [page], (page,), {"page": page}, (100, page), (page, "near")]
     objects += [table, [table], ("table", table), {"all": table}]
+    sheet, desk = Sheet(page), Desk(SMALL + "\ntold")
+    objects += [sheet, desk, [sheet], (sheet,), ("all", desk), {"sheet": sheet}, sheet.trial()]
     deep = [
         nested(lambda value: [value], 30),
         nested(lambda value: (value,), 30),
