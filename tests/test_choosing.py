@@ -371,6 +371,20 @@ class ShowsCheapestTest(CheapestCase):
                 self.assertFalse(self.same(page, offers, wishes, ("choice", 0, (), (), reasons)))
         self.assertGreater(many, 100)
 
+    def test_a_choice_by_which_some_wish_does_not_come_true(self):
+        chance = random.Random(156)
+        many = 0
+        for _ in range(150):
+            page, offers, wishes = self.asked(chance)
+            own = cheapest(page, offers, wishes)
+            for at, (choice, _, _) in enumerate(own[-1]):
+                changed = Page(changed_text(page.text, choice))
+                told = tuple(judged(changed, statement) for statement, _ in wishes)
+                value = ("choice", price_of(choice), choice, told, own[-1][:at])
+                self.assertFalse(self.same(page, offers, wishes, value))
+                many += 1
+        self.assertGreater(many, 50)
+
     def test_a_dearer_choice_is_not_right(self):
         page = Page(EXAMPLE)
         dear = (5, "part open of all is 24", 3)

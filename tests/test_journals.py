@@ -120,6 +120,23 @@ class JournalTest(JournalCase):
         sheet.redo()
         self.assertEqual(journal(sheet), EXAMPLE + "\ntold\ntell open 24")
 
+    def test_what_was_done_again_is_written(self):
+        sheet = Sheet(Page(EXAMPLE))
+        sheet.tell("open", 24)
+        sheet.tell_far("old", 16)
+        sheet.drop("no")
+        text = journal(sheet)
+        self.assertEqual(text.split("\n")[7:], ["told", "tell open 24", "far old 16", "drop no"])
+        for many in (1, 2, 3):
+            for _ in range(many):
+                sheet.undo()
+            self.assertEqual(journal(sheet), "\n".join(text.split("\n")[:-many]))
+            other = sheet.copy()
+            for _ in range(many):
+                sheet.redo()
+                other.redo()
+            self.assertEqual((journal(sheet), journal(other)), (text, text))
+
     def test_parts_called_by_words_of_lines(self):
         page = Page("in 10 near\nasked told\npart tell of told\npart drop of told\npart far of tell")
         self.assertEqual(page.parts, ("told", "tell", "drop", "far"))
