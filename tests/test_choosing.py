@@ -7,9 +7,7 @@ from anyasked.choosing import cheapest, shows_cheapest
 from anyasked.errors import BadOffers, BadWishes
 from anyasked.holding import judged
 from anyasked.pages import Page
-from anyasked.possible import possible
-from anyasked.rows import rows
-from tests.anyvalues import Refusals, any_values, is_plain_integer
+from tests.anyvalues import Refusals, any_values
 from tests.choices import all_choices, changed_text, counting, is_right, price_of
 from tests.countedpages import any_page, counted_page, moved_page
 from tests.pagetexts import EXAMPLE, random_share

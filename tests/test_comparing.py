@@ -9,9 +9,7 @@ from anyasked.errors import NoTable, Unlike
 from anyasked.pages import Page
 from anyasked.possible import possible
 from tests.anyvalues import Refusals, any_values
-from tests.countedpages import (
-    any_page, bare_page, counted_page, flat_page, in_other_units, moved_page, page_of, random_counts, shown_page,
-)
+from tests.countedpages import counted_page, flat_page, in_other_units, moved_page, shown_page
 from tests.elimination import can_be
 from tests.pagetexts import EXAMPLE
 from tests.reckoning import bends, fits, is_counts, is_kind, is_paper, is_so, rows_of, small_tables
