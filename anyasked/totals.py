@@ -98,6 +98,8 @@ def totals(page, low, high):
     """The totals from low to high of which some table fits, ascending."""
     refuse(low)
     refuse(high)
+    if high < low:
+        raise BadTotal(high)
     return tuple([total for total in range(low, high + 1) if is_total(page, total)])
 
 

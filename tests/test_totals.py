@@ -308,9 +308,9 @@ class CanTest(CanCase):
         self.assertEqual(every, tuple(total for total in range(1, 151) if can(page, total)[0] == "can"))
         chance = random.Random(132)
         for _ in range(60):
-            low, high = chance.randint(1, 150), chance.randint(1, 150)
+            low, high = sorted((chance.randint(1, 150), chance.randint(1, 150)))
             self.assertEqual(totals(page, low, high), tuple(total for total in every if low <= total <= high))
-        self.assertEqual((totals(page, 52, 52), totals(page, 53, 52), totals(page, 150, 1)), ((52,), (), ()))
+        self.assertEqual((totals(page, 52, 52), totals(page, 53, 53), totals(page, 53, 64)), ((52,), (), ()))
         never = page.told("open", 27)
         self.assertEqual((totals(never, 1, 150), can(never, 52)[0], counts_at(never, 52, "yes")), ((), "never", ()))
         self.assertEqual(totals(Page("in 2 up\nasked x\npart y of x"), 1, 150), tuple(range(1, 151)))
@@ -344,6 +344,17 @@ class BadTotalTest(CanCase):
                 self.refuses(BadTotal, value, totals, page, 150, value)
                 self.refuses(BadTotal, value, totals, page, value, 0)
                 self.refuses(BadTotal, value, totals, page, value, True)
+
+    def test_high_less_than_low(self):
+        for page in (Page(EXAMPLE), Page(EXAMPLE).told("open", 27), flat_page((5, "near"), [None])):
+            for low, high in ((53, 52), (2, 1), (150, 1), (150, 149), (52, 51), (5, 4), (85, 84)):
+                self.refuses(BadTotal, high, totals, page, low, high)
+                self.refuses(BadTotal, high, totals, high=high, low=low, page=page)
+            self.refuses(BadTotal, 151, totals, page, 151, 4)
+            for low, high in ((1, 1), (52, 52), (53, 53), (150, 150), (4, 5), (149, 150)):
+                self.assertLessEqual(set(totals(page, low, high)), {low, high})
+        every = flat_page((5, "near"), [None])
+        self.assertEqual((totals(every, 5, 5), totals(every, 4, 5), totals(every, 1, 1)), ((5,), (4, 5), (1,)))
 
     def test_no_part(self):
         for page in (Page(EXAMPLE), Page(EXAMPLE).told("open", 27)):
